@@ -1,0 +1,1 @@
+"""Roundorlist: councils that take motions two by two by any table of wins."""

@@ -1,0 +1,40 @@
+"""The interface: names, arguments, and the files in which they are defined."""
+
+import importlib
+import inspect
+import unittest
+
+INTERFACE = {
+    "rows": {
+        "made_row": "n, thing", "is_row": "n, thing", "made_rows": "n, thing", "level": "n", "rows_of": "n",
+        "turned": "row", "sums": "one, two",
+    },
+    "lots": {
+        "made_lot": "thing", "is_lot": "thing", "has": "lot, row", "joined": "one, two", "both": "one, two",
+        "without": "one, two", "renamed": "lot, order", "mirrored": "lot, signs", "turned_lot": "lot",
+    },
+}
+
+
+class Interface(unittest.TestCase):
+
+    def test_names_arguments_and_files(self):
+        for file, functions in INTERFACE.items():
+            module = importlib.import_module("roundorlist." + file)
+            for name, arguments in functions.items():
+                function = getattr(module, name)
+                self.assertTrue(inspect.isfunction(function), name)
+                self.assertEqual(function.__module__, "roundorlist." + file, name)
+                self.assertEqual(", ".join(inspect.signature(function).parameters), arguments, name)
+
+    def test_all_arguments_must_be_given_and_may_be_named(self):
+        for file, functions in INTERFACE.items():
+            module = importlib.import_module("roundorlist." + file)
+            for name in functions:
+                for parameter in inspect.signature(getattr(module, name)).parameters.values():
+                    self.assertIs(parameter.kind, inspect.Parameter.POSITIONAL_OR_KEYWORD, name)
+                    self.assertIs(parameter.default, inspect.Parameter.empty, name)
+
+
+if __name__ == "__main__":
+    unittest.main()

@@ -1,0 +1,145 @@
+"""The subset of the language in which the package is written, as far as it can be seen from outside."""
+
+import ast
+import builtins
+import pathlib
+import re
+import unittest
+import warnings
+
+PACKAGE = pathlib.Path(__file__).resolve().parent.parent / "roundorlist"
+FILES = sorted(path for path in PACKAGE.rglob("*") if path.is_file() and path.suffix != ".pyc")
+SOURCES = {path: path.read_text(encoding="utf-8") for path in FILES}
+TREES = {path: ast.parse(source) for path, source in SOURCES.items()}
+
+BUILTINS = set((
+    "len range enumerate zip min max sum abs sorted reversed int str bool bytes list tuple dict set frozenset "
+    "isinstance ord repr any all divmod pow getattr hasattr setattr Exception ValueError TypeError KeyError "
+    "IndexError LookupError ZeroDivisionError ArithmeticError OverflowError RuntimeError NotImplementedError "
+    "AttributeError StopIteration NotImplemented iter next map type"
+).split())
+LIBRARY = {
+    "heapq": set("heappush heappop heapify heapreplace heappushpop".split()),
+    "math": set("gcd lcm isqrt comb perm factorial".split()),
+    "itertools": set("product combinations permutations chain accumulate pairwise islice zip_longest".split()),
+    "collections": {"defaultdict", "deque"},
+}
+BARRED = (ast.AsyncFunctionDef, ast.AsyncFor, ast.AsyncWith, ast.Await, ast.Global, ast.Div, ast.Import)
+ALLOWED_AT_TOP = (ast.FunctionDef, ast.ClassDef, ast.ImportFrom, ast.Assign, ast.Expr)
+
+
+def functions_of(tree):
+    return [node for node in ast.walk(tree) if isinstance(node, ast.FunctionDef)]
+
+
+def names_bound(tree):
+    """All names that a file gives to something."""
+    found = set()
+    for node in ast.walk(tree):
+        if isinstance(node, (ast.FunctionDef, ast.ClassDef)):
+            found.add(node.name)
+        elif isinstance(node, ast.arg):
+            found.add(node.arg)
+        elif isinstance(node, ast.Name) and not isinstance(node.ctx, ast.Load):
+            found.add(node.id)
+        elif isinstance(node, ast.ImportFrom):
+            found.update(alias.asname or alias.name for alias in node.names)
+    return found
+
+
+class Language(unittest.TestCase):
+
+    def test_the_folder_has_only_plain_files(self):
+        self.assertIn(PACKAGE / "__init__.py", FILES)
+        for path in FILES:
+            self.assertRegex(path.name, r"^[a-z_][a-z0-9_]*\.py$")
+            self.assertEqual(path.parent, PACKAGE)
+
+    def test_sizes_and_characters(self):
+        for path, source in SOURCES.items():
+            self.assertRegex(source, re.compile(r"\A[ -~\n]*\Z"), path.name)
+            lines = source.splitlines()
+            self.assertLessEqual(len(lines), 399, path.name)
+            self.assertLessEqual(max(map(len, lines)), 120, path.name)
+            for function in functions_of(TREES[path]):
+                self.assertLessEqual(function.end_lineno - function.lineno + 1, 40, function.name)
+
+    def test_no_warnings(self):
+        with warnings.catch_warnings():
+            warnings.simplefilter("error")
+            for path, source in SOURCES.items():
+                compile(source, str(path), "exec")
+
+    def test_module_level(self):
+        for path, tree in TREES.items():
+            for node in tree.body:
+                self.assertIsInstance(node, ALLOWED_AT_TOP, path.name)
+                if isinstance(node, ast.Assign):
+                    ast.literal_eval(node.value)
+                if isinstance(node, ast.Expr):
+                    self.assertIs(node, tree.body[0], path.name)
+
+    def test_statements(self):
+        for path, tree in TREES.items():
+            for node in ast.walk(tree):
+                self.assertNotIsInstance(node, BARRED, path.name)
+                self.assertFalse(getattr(node, "decorator_list", []), path.name)
+                if isinstance(node, ast.Constant):
+                    self.assertNotIsInstance(node.value, (float, complex), path.name)
+
+    def test_imports_name_the_file_that_defines(self):
+        for path, tree in TREES.items():
+            for node in ast.walk(tree):
+                if isinstance(node, ast.ImportFrom):
+                    self.assertIn(node, tree.body, path.name)
+                    self.assertEqual(node.level, 0, path.name)
+                    self.check_import(path, node)
+
+    def check_import(self, path, node):
+        for alias in node.names:
+            if node.module in LIBRARY:
+                self.assertIn(alias.name, LIBRARY[node.module], path.name)
+                continue
+            self.assertRegex(node.module, r"^roundorlist\.[a-z_]+$", path.name)
+            other = TREES[PACKAGE / (node.module.split(".")[1] + ".py")]
+            defined = [part.name for part in other.body if isinstance(part, (ast.FunctionDef, ast.ClassDef))]
+            for part in other.body:
+                if isinstance(part, ast.Assign):
+                    defined.append(part.targets[0].id)
+            self.assertIn(alias.name, defined, path.name)
+
+    def test_imports_are_used_and_never_go_round(self):
+        ahead = {}
+        for path, tree in TREES.items():
+            read = {node.id for node in ast.walk(tree) if isinstance(node, ast.Name)}
+            ahead[path.stem] = set()
+            for node in tree.body:
+                if isinstance(node, ast.ImportFrom):
+                    self.assertLessEqual({alias.asname or alias.name for alias in node.names}, read, path.name)
+                    if node.module.startswith("roundorlist."):
+                        ahead[path.stem].add(node.module.split(".")[1])
+        while ahead:
+            free = [name for name, others in ahead.items() if not others]
+            self.assertTrue(free, ahead)
+            ahead = {name: others - set(free) for name, others in ahead.items() if others}
+
+    def test_no_other_builtin_is_used_and_none_gets_another_meaning(self):
+        for path, tree in TREES.items():
+            bound = names_bound(tree)
+            self.assertEqual(sorted(bound & set(dir(builtins))), [], path.name)
+            for node in ast.walk(tree):
+                if isinstance(node, ast.Name) and node.id not in bound:
+                    self.assertIn(node.id, BUILTINS, path.name)
+
+    def test_no_local_name_is_that_of_an_import(self):
+        for path, tree in TREES.items():
+            brought = set()
+            for node in tree.body:
+                if isinstance(node, ast.ImportFrom):
+                    brought.update(alias.name for alias in node.names)
+            for function in functions_of(tree):
+                self.assertEqual(sorted(names_bound(function) & brought), [], function.name)
+
+
+if __name__ == "__main__":
+    unittest.main()
