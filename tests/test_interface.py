@@ -13,6 +13,16 @@ INTERFACE = {
         "made_lot": "thing", "is_lot": "thing", "has": "lot, row", "joined": "one, two", "both": "one, two",
         "without": "one, two", "renamed": "lot, order", "mirrored": "lot, signs", "turned_lot": "lot",
     },
+    "tables": {"made_table": "thing", "is_table": "thing"},
+    "ladders": {
+        "made_ladder": "n, thing", "is_ladder": "n, thing", "look": "n, ladder, row", "heeds": "lot, ladder",
+        "climbed": "lot, ladder", "bars": "lot, ladder, row",
+    },
+    "walking": {"walk_by": "lot, row, order", "walk": "lot, row", "can_lead": "lot, row"},
+    "leading": {
+        "leads": "n, rows, row", "few": "lot, row", "fewest": "lot, row", "row_of": "new, old",
+        "way_of": "n, rows, row", "lead_way": "lot, row",
+    },
 }
 
 

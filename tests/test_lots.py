@@ -3,66 +3,11 @@
 import unittest
 from itertools import permutations, product
 
-from common import (Case, DEEP, DEEP_PAIRS, LONG, LONG_ROWS, NO_MANY, NO_SIGNS, NO_TUPLES, ODD, every_lot, every_row,
-                    level_of, some_lots)
+from common import (Case, DEEP, LONG, NO_LOTS, NO_MANY, NO_SIGNS, NO_TUPLES, ODD, every_lot, every_row, level_of,
+                    lots_refused_first, orders_refused, rows_refused, some_lots)
 from roundorlist.lots import (both, has, is_lot, joined, made_lot, mirrored, renamed, turned_lot, without)
 
 EXAMPLE = (2, ((0, 1), (1, -1), (1, 1)))
-
-# Things that are no lots, and what is told of each.
-NO_LOTS = tuple((thing, "BadLot", -1) for thing in NO_TUPLES) + (
-    ((), "BadLot", -1),
-    ((1,), "BadLot", -1),
-    ((0,), "BadLot", -1),
-    ((1, (), ()), "BadLot", -1),
-    ((0, (), ()), "BadLot", -1),
-    (DEEP, "BadLot", -1),
-    (LONG, "BadLot", -1),
-    (LONG_ROWS, "BadLot", -1),
-    (DEEP_PAIRS, "BadLot", 0),
-    (((1,), ()), "BadMany", (1,)),
-    ((0, ()), "BadMany", 0),
-    ((7, ()), "BadMany", 7),
-    ((True, ()), "BadMany", True),
-    ((None, None), "BadMany", None),
-    ((0, None), "BadMany", 0),
-    ((7, ((7,),)), "BadMany", 7),
-    ((1, None), "BadLot", -1),
-    ((1, 0), "BadLot", -1),
-    ((1, False), "BadLot", -1),
-    ((1, "0"), "BadLot", -1),
-    ((6, 6), "BadLot", -1),
-    ((1, LONG), "BadLot", 0),
-    ((2, LONG_ROWS), "BadLot", 1),
-    ((1, (0, 1)), "BadLot", 0),
-    ((1, ((True,),)), "BadLot", 0),
-    ((1, ((False,), (1,))), "BadLot", 0),
-    ((1, ((0,), (True,))), "BadLot", 1),
-    ((2, ((0, 1), (1, 2))), "BadLot", 1),
-    ((2, ((0, 1), (1,))), "BadLot", 1),
-    ((2, ((0, 1), (1, 0, 0))), "BadLot", 1),
-    ((2, ((0, 1), None)), "BadLot", 1),
-    ((2, ((0, 1), "10")), "BadLot", 1),
-    ((2, ((0, 1), ())), "BadLot", 1),
-    ((2, ((), (0, 1))), "BadLot", 0),
-    ((2, ((0, 1), DEEP)), "BadLot", 1),
-    ((2, ((0, 1), (1, DEEP))), "BadLot", 1),
-    ((2, ((0, 1), (0, 1))), "BadLot", 1),
-    ((2, ((1, 1), (0, 1))), "BadLot", 1),
-    ((2, ((-1, 0), (0, 1), (0, 1), (1, 1))), "BadLot", 2),
-    ((2, ((-1, 0), (0, 1), (0, 0), (1, 1))), "BadLot", 2),
-    ((2, ((-1, 0), (0, 1), (0, 0), (7, 1))), "BadLot", 2),
-    ((2, ((-1, 0), (0, 7), (0, 0), (0, 0))), "BadLot", 1),
-    ((1, ((1,), (0,), (-1,))), "BadLot", 1),
-    ((1, ((0,), (0,))), "BadLot", 1),
-)
-
-
-def lots_asked_first(case, call, *more):
-    """The call asks (lot) of its first argument ahead of all others."""
-    for thing, name, what in NO_LOTS:
-        case.refused(name, what, call, thing, *more)
-
 
 class MadeLot(Case):
 
@@ -133,16 +78,12 @@ class Has(Case):
             self.assertIs(has((6, every_row(6)), row), True)
 
     def test_the_lot_is_asked_first(self):
-        lots_asked_first(self, has, (0, 1))
-        lots_asked_first(self, has, None)
+        lots_refused_first(self, has, (0, 1))
+        lots_refused_first(self, has, None)
 
     def test_then_the_row(self):
-        for row in NO_TUPLES + ((), (0,), (0, 1, 0), LONG):
-            self.refused("BadRow", -1, has, EXAMPLE, row)
-        for wrong in NO_SIGNS:
-            self.refused("BadRow", 1, has, EXAMPLE, (0, wrong))
-            self.refused("BadRow", 0, has, EXAMPLE, (wrong, wrong))
-        self.refused("BadRow", 1, has, EXAMPLE, (0, True))
+        rows_refused(self, has, 2, (EXAMPLE,))
+        rows_refused(self, has, 6, ((6, ()),))
 
 
 class TwoLots(Case):
@@ -183,9 +124,9 @@ class TwoLots(Case):
 
     def test_one_is_asked_first(self):
         for call in (joined, both, without):
-            lots_asked_first(self, call, (1, ()))
-            lots_asked_first(self, call, None)
-            lots_asked_first(self, call, (9, ()))
+            lots_refused_first(self, call, (1, ()))
+            lots_refused_first(self, call, None)
+            lots_refused_first(self, call, (9, ()))
 
     def test_then_two(self):
         for call in (joined, both, without):
@@ -228,19 +169,11 @@ class Renamed(Case):
         self.same(renamed((6, ()), (0, 1, 2, 3, 4, 5)), (6, ()))
 
     def test_the_lot_is_asked_first(self):
-        lots_asked_first(self, renamed, (0, 1))
-        lots_asked_first(self, renamed, None)
+        lots_refused_first(self, renamed, (0, 1))
+        lots_refused_first(self, renamed, None)
 
     def test_then_the_order(self):
-        for order in NO_TUPLES + ((), (0,), (0, 1, 2), (0, 2), (1, 2), (0, 0), (1, 1), (-1, 0), (0, -1), DEEP, LONG):
-            self.refused("BadOrder", -1, renamed, EXAMPLE, order)
-        for wrong in NO_SIGNS:
-            self.refused("BadOrder", -1, renamed, EXAMPLE, (0, wrong))
-            self.refused("BadOrder", -1, renamed, EXAMPLE, (wrong, 0))
-            self.refused("BadOrder", -1, renamed, EXAMPLE, (wrong, 1))
-        self.refused("BadOrder", -1, renamed, EXAMPLE, (False, True))
-        self.refused("BadOrder", -1, renamed, EXAMPLE, (0, True))
-        self.refused("BadOrder", -1, renamed, EXAMPLE, (False, 1))
+        orders_refused(self, renamed, (EXAMPLE,))
         self.refused("BadOrder", -1, renamed, (1, ()), (1,))
         self.refused("BadOrder", -1, renamed, (1, ()), (False,))
         self.refused("BadOrder", -1, renamed, (3, ()), (0, 1, 1))
@@ -272,8 +205,8 @@ class Mirrored(Case):
         self.same(mirrored((6, ()), (-1,) * 6), (6, ()))
 
     def test_the_lot_is_asked_first(self):
-        lots_asked_first(self, mirrored, (1, 1))
-        lots_asked_first(self, mirrored, None)
+        lots_refused_first(self, mirrored, (1, 1))
+        lots_refused_first(self, mirrored, None)
 
     def test_then_the_signs(self):
         for signs in NO_TUPLES + ((), (1,), (1, 1, 1), (7,), (0, 0, 0), DEEP, LONG):
@@ -305,7 +238,7 @@ class TurnedLot(Case):
             self.same(turned_lot(lot), mirrored(lot, (-1,) * lot[0]))
 
     def test_the_lot_is_asked(self):
-        lots_asked_first(self, turned_lot)
+        lots_refused_first(self, turned_lot)
         self.same(turned_lot((1, ((1,),))), (1, ((-1,),)))
 
 
