@@ -19,11 +19,11 @@ def ladder_fault(n, thing):
     """What BadLadder tells of thing, None if it is a ladder of n members."""
     if not isinstance(thing, tuple):
         return -1
-    ahead = set()
+    ahead = {}
     for index, part in enumerate(thing):
         if not rung_fits(n, part) or part[0] in ahead:
             return index
-        ahead.add(part[0])
+        ahead[part[0]] = True
     return None
 
 
@@ -52,7 +52,6 @@ def stand_on(ladder, row):
 
 def look(n, ladder, row):
     """How the row stands on the ladder: 0 if it is level, 1 if it climbs, -1 if it falls."""
-    ask_many(n)
     made_ladder(n, ladder)
     made_row(n, row)
     return stand_on(ladder, row)

@@ -2,8 +2,9 @@
 
 from roundorlist.errors import Barred, NotLed, TooMany
 from roundorlist.ladders import stand_on
+from roundorlist.lots import made_lot
 from roundorlist.rows import made_row, made_rows
-from roundorlist.walking import can_lead, walk
+from roundorlist.walking import walk
 
 MOST_FOR_FEWEST = 4
 
@@ -86,32 +87,39 @@ def few(lot, row):
     return tuple(sorted(picked))
 
 
+def marks_behind(newest, steps, reached):
+    """All marks, not reached ahead, that one step makes of the newest ones; from now on they are reached."""
+    found = []
+    for marks in newest:
+        for step in steps:
+            together = marks | step
+            if together not in reached:
+                reached[together] = True
+                found.append(together)
+    return found
+
+
 def least_many(rows, row):
-    """The least number of the rows that lead to the row; some of them have to."""
+    """The least number of the rows that lead to the row, None if none of them do."""
     steps = [marks_of(each) for each in rows]
-    reached = {marks: True for marks in steps}
-    newest = steps
-    many = 1
-    while not any([marks_lead(marks, row) for marks in newest]):
-        found = []
-        for marks in newest:
-            for step in steps:
-                if marks | step not in reached:
-                    reached[marks | step] = True
-                    found.append(marks | step)
-        newest = found
+    # No marks at all are not reached yet, as one row at least is always needed.
+    reached = {}
+    newest = [0]
+    many = 0
+    while len(newest) > 0:
+        newest = marks_behind(newest, steps, reached)
         many += 1
-    return many
+        if any([marks_lead(marks, row) for marks in newest]):
+            return many
+    return None
 
 
 def fewest(lot, row):
     """The least number of rows of the lot that lead to the row, None if the lot cannot."""
-    led = can_lead(lot, row)
-    n, rows = lot
+    n, rows = made_lot(lot)
+    made_row(n, row)
     if n > MOST_FOR_FEWEST:
         raise TooMany(n)
-    if not led:
-        return None
     return least_many(rows, row)
 
 

@@ -84,14 +84,17 @@ def without(one, two):
     return (one[0], tuple([row for row in one[1] if row not in held]))
 
 
+def is_order_of(n, thing):
+    """Whether thing is a tuple that has each of n members just once."""
+    if not isinstance(thing, tuple) or len(thing) != n:
+        return False
+    # True and False are equal to 1 and 0, so sorting alone would let them by.
+    return all([is_number(member) for member in thing]) and sorted(thing) == list(range(n))
+
+
 def ask_order(n, order):
     """What the mark (order) stands for."""
-    if not isinstance(order, tuple) or len(order) != n:
-        raise BadOrder(-1)
-    # True and False are equal to 1 and 0, so sorting alone would let them by.
-    if not all([is_number(member) for member in order]):
-        raise BadOrder(-1)
-    if sorted(order) != list(range(n)):
+    if not is_order_of(n, order):
         raise BadOrder(-1)
 
 

@@ -205,6 +205,15 @@ class Fewest(Case):
             for row in every_row(4):
                 self.same(fewest(table, row), 1 if stand(ladder, row) == 1 else None)
 
+    def test_many_rows_of_which_many_are_needed(self):
+        rows = tuple(row for row in every_row(4) if row.count(1) <= 1 and any(row))
+        self.assertEqual(len(rows), 47)
+        self.same(fewest((4, rows), (1, 1, 1, 1)), 4)
+        self.same(fewest((4, rows), (1, 1, 1, 0)), 3)
+        self.same(fewest((4, rows), (0, 0, 0, 0)), 2)
+        self.same(fewest((4, tuple(row for row in rows if row.count(0) < 3)), (0, 0, 0, 0)), 2)
+        self.same(fewest((4, tuple(row for row in rows if row.count(0) == 0 and row != (-1,) * 4)), (0,) * 4), 4)
+
     def test_beside_few(self):
         for lot in some_lots(4, 12, 30):
             for row in every_row(4):
