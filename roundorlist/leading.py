@@ -79,11 +79,11 @@ def few(lot, row):
     # none where the row has 0. A place that has got both keeps them, so each place costs one row at most.
     left = [each for each in lot[1] if stand_on(ladder, each) == 0]
     picked = picked_for(left, row)
-    lone = lone_sign(picked, row)
-    while lone is not None:
-        place, sign = lone
-        picked.append(first_with(left, place, -sign))
+    for _ in row:
         lone = lone_sign(picked, row)
+        if lone is not None:
+            place, sign = lone
+            picked.append(first_with(left, place, -sign))
     return tuple(sorted(picked))
 
 
