@@ -2,7 +2,7 @@
 
 import random
 import unittest
-from itertools import combinations
+from itertools import combinations, product
 
 from roundorlist import errors
 
@@ -75,6 +75,29 @@ NO_LOTS = tuple((thing, "BadLot", -1) for thing in NO_TUPLES) + (
     ((2, ((-1, 0), (0, 7), (0, 0), (0, 0))), "BadLot", 1),
     ((1, ((1,), (0,), (-1,))), "BadLot", 1),
     ((1, ((0,), (0,))), "BadLot", 1),
+)
+
+# Things that are no tables, and what is told of each; where a level row stands ahead of the fault it is told.
+NO_TABLES = tuple(
+    (thing, {"BadLot": "BadTable"}.get(name, name), what) for thing, name, what in NO_LOTS
+    if thing not in ((1, ((0,), (True,))), (1, ((0,), (0,))))
+) + (
+    ((1, ((0,),)), "BadTable", 0),
+    ((1, ((0,), (True,))), "BadTable", 0),
+    ((1, ((False,), (1,))), "BadTable", 0),
+    ((1, ((0,), (0,))), "BadTable", 0),
+    ((1, ((-1,), (0,), (1,))), "BadTable", 1),
+    ((2, ((-1, 0), (0, 0), (0, 0))), "BadTable", 1),
+    ((2, ((-1, 0), (0, 0), (7, 0))), "BadTable", 1),
+    ((2, ((-1, 0), (7, 0), (0, 0))), "BadTable", 1),
+    ((6, ((-1, 0, 0, 0, 0, 0), (0, 0, 0, 0, 0, 0))), "BadTable", 1),
+)
+
+# Parts that can stand on no ladder of two members.
+NO_RUNGS = (
+    (), (0,), (0, 1, 1), (0, 0), (0, 2), (0, -2), (2, 1), (-1, 1), (6, 1), (10 ** 999, 1), (0, 10 ** 999), (0, None),
+    (None, 1), (True, 1), (False, 1), (0, True), (0, False), ("0", 1), (0, "1"), ((0,), 1), (0, (1,)), (DEEP, 1),
+    (0, DEEP), (LONG, 1), None, True, False, 0, 1, "", "01", DEEP, DEEP_PAIRS, LONG,
 )
 
 
@@ -185,10 +208,101 @@ def climbing(n, ladder):
     return (n, tuple(row for row in every_row(n) if stand(ladder, row) == 1))
 
 
+def needing_all(n):
+    """A lot of n + 1 rows that can lead to the level row by no fewer than all."""
+    units = [(0,) * at + (1,) + (0,) * (n - at - 1) for at in range(n)]
+    return (n, tuple(sorted([(-1,) * n] + units)))
+
+
+def order_of(new, old):
+    """The row of two motions, told without the package."""
+    return tuple((one > two) - (one < two) for one, two in zip(new, old))
+
+
+def every_table(n):
+    """All tables of n members."""
+    return [lot for lot in every_lot(n) if level_of(n) not in lot[1]]
+
+
+def some_tables(n, many, most):
+    """So many tables of n members, the same ones in each run, of at most so many rows and the level one."""
+    return [(n, tuple(row for row in rows if any(row))) for _, rows in some_lots(n, many, most)]
+
+
+def all_but_level(n):
+    """The table of all rows but the level one."""
+    return (n, tuple(row for row in every_row(n) if any(row)))
+
+
+def is_tight(table, ladder):
+    """Whether a ladder is tight ([19]), told without the package."""
+    for at, (member, sign) in enumerate(ladder):
+        ahead = [held for held, _ in ladder[:at]]
+        if not any(row[member] == sign and not any(row[held] for held in ahead) for row in table[1]):
+            return False
+    return is_climbed(table, ladder)
+
+
+def tight_ladders(table):
+    """All tight ladders of a table in their order ([20]), told without the package."""
+    found = [ladder for ladder in every_ladder(table[0]) if is_tight(table, ladder)]
+    return sorted(found, key=lambda ladder: [member for member, _ in ladder])
+
+
+def full_ladders(n):
+    """All ladders with all n members on them."""
+    return [ladder for ladder in every_ladder(n) if len(ladder) == n]
+
+
+def summed(one, two):
+    """All rows of the sum of two rows ([3]), told without the package."""
+    places = [(-1, 0, 1) if here * there == -1 else (here or there,) for here, there in zip(one, two)]
+    return list(product(*places))
+
+
+def closed(lot):
+    """The lot's rows with all rows of sums of them, and of sums of these, and so on."""
+    rows = set(lot[1])
+    new = rows
+    while new:
+        new = {row for one in rows for two in rows for row in summed(one, two)} - rows
+        rows |= new
+    return rows
+
+
+def is_way_by(lot, way):
+    """Whether a way of tuples of ints begins with heights of 0, and all its steps are rows of the lot ([14])."""
+    plain = type(way) is tuple and all(type(motion) is tuple for motion in way)
+    if not plain or not all(type(height) is int for motion in way for height in motion):
+        return False
+    steps = [order_of(new, old) for old, new in zip(way, way[1:])]
+    return way[0] == level_of(lot[0]) and len(steps) > 0 and set(steps) <= set(lot[1])
+
+
 def lots_refused_first(case, call, *more):
     """The call asks (lot) of its first argument ahead of the others."""
     for thing, name, what in NO_LOTS:
         case.refused(name, what, call, thing, *more)
+
+
+def tables_refused_first(case, call, *more):
+    """The call asks (table) of its first argument ahead of the others."""
+    for thing, name, what in NO_TABLES:
+        case.refused(name, what, call, thing, *more)
+
+
+def two_lots_refused_first(case, call, *more):
+    """The call asks (lot), of its first argument and then of its second one, and (unlike) ahead of the others."""
+    for thing, name, what in NO_LOTS:
+        case.refused(name, what, call, thing, (1, ()), *more)
+        case.refused(name, what, call, thing, None, *more)
+        case.refused(name, what, call, (2, ((0, 1),)), thing, *more)
+        case.refused(name, what, call, (6, ()), thing, *more)
+    for one in range(1, 7):
+        for two in range(1, 7):
+            if one != two:
+                case.refused("Unlike", 0, call, (one, ()), (two, ()), *more)
+                case.refused("Unlike", 0, call, (one, every_row(one)), (two, every_row(two)), *more)
 
 
 def rows_refused(case, call, n, ahead, *behind):
@@ -207,3 +321,21 @@ def orders_refused(case, call, ahead, *behind):
     orders += tuple((0, wrong) for wrong in NO_SIGNS) + tuple((wrong, 0) for wrong in NO_SIGNS)
     for order in orders + tuple((wrong, 1) for wrong in NO_SIGNS) + ((False, True), (True, False)):
         case.refused("BadOrder", -1, call, *ahead, order, *behind)
+
+
+def ladders_refused(case, call, ahead, *behind):
+    """The call asks (ladder), for 2 members, of the argument between those ahead and those behind."""
+    for thing in NO_TUPLES:
+        case.refused("BadLadder", -1, call, *ahead, thing, *behind)
+    for part in NO_RUNGS:
+        case.refused("BadLadder", 0, call, *ahead, (part,), *behind)
+        case.refused("BadLadder", 1, call, *ahead, ((1, -1), part), *behind)
+        case.refused("BadLadder", 2, call, *ahead, ((1, -1), (0, 1), part), *behind)
+        case.refused("BadLadder", 0, call, *ahead, (part, part, part), *behind)
+        case.refused("BadLadder", 1, call, *ahead, ((1, 1), part, (1, 1)), *behind)
+    for again in (((0, 1), (0, 1)), ((0, 1), (0, -1)), ((0, 1), (0, 1), (7, 7)), ((1, 1), (1, -1), (0, 1))):
+        case.refused("BadLadder", 1, call, *ahead, again, *behind)
+    case.refused("BadLadder", 2, call, *ahead, ((0, 1), (1, 1), (0, 1)), *behind)
+    case.refused("BadLadder", 2, call, *ahead, ((0, 1), (1, 1), (1, -1)), *behind)
+    case.refused("BadLadder", 1, call, *ahead, ((0, 1),) * 50000, *behind)
+    case.refused("BadLadder", 0, call, *ahead, LONG, *behind)

@@ -23,6 +23,19 @@ INTERFACE = {
         "leads": "n, rows, row", "few": "lot, row", "fewest": "lot, row", "row_of": "new, old",
         "way_of": "n, rows, row", "lead_way": "lot, row",
     },
+    "rounds": {"goes_round": "table", "round_of": "table", "round_size": "table", "ladder_of": "table"},
+    "counts": {
+        "count": "table", "nth": "table, k", "number": "table, ladder", "heads": "lot", "leads_all": "lot",
+        "full_count": "table",
+    },
+    "strikes": {
+        "calm_price": "table, prices", "calm_strike": "table, prices", "bar_price": "lot, prices, row",
+        "bar_strike": "lot, prices, row",
+    },
+    "ledlots": {
+        "led": "lot", "alike": "one, two", "parting": "one, two", "break_of": "lot", "by_turns": "one, two",
+        "turns_way": "one, two, row",
+    },
 }
 
 

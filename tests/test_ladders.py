@@ -2,37 +2,12 @@
 
 import unittest
 
-from common import (Case, DEEP, DEEP_PAIRS, LONG, NO_MANY, NO_NUMBERS, NO_TUPLES, ODD, climbing, every_ladder,
-                    every_lot, every_row, is_barred_by, is_climbed, is_heeded, level_of, lots_refused_first,
-                    rows_refused, some_lots, stand)
+from common import (Case, DEEP, NO_MANY, NO_NUMBERS, NO_RUNGS, ODD, climbing, every_ladder, every_lot, every_row,
+                    is_barred_by, is_climbed, is_heeded, ladders_refused, level_of, lots_refused_first, rows_refused,
+                    some_lots, stand)
 from roundorlist.ladders import bars, climbed, heeds, is_ladder, look, made_ladder
 
 T = (2, ((0, 1), (1, -1), (1, 0), (1, 1)))
-
-# Parts that can stand on no ladder of two members.
-NO_RUNGS = (
-    (), (0,), (0, 1, 1), (0, 0), (0, 2), (0, -2), (2, 1), (-1, 1), (6, 1), (10 ** 999, 1), (0, 10 ** 999), (0, None),
-    (None, 1), (True, 1), (False, 1), (0, True), (0, False), ("0", 1), (0, "1"), ((0,), 1), (0, (1,)), (DEEP, 1),
-    (0, DEEP), (LONG, 1), None, True, False, 0, 1, "", "01", DEEP, DEEP_PAIRS, LONG,
-)
-
-
-def ladders_refused(case, call, ahead, *behind):
-    """The call asks (ladder), for 2 members, of the argument between those ahead and those behind."""
-    for thing in NO_TUPLES:
-        case.refused("BadLadder", -1, call, *ahead, thing, *behind)
-    for part in NO_RUNGS:
-        case.refused("BadLadder", 0, call, *ahead, (part,), *behind)
-        case.refused("BadLadder", 1, call, *ahead, ((1, -1), part), *behind)
-        case.refused("BadLadder", 2, call, *ahead, ((1, -1), (0, 1), part), *behind)
-        case.refused("BadLadder", 0, call, *ahead, (part, part, part), *behind)
-        case.refused("BadLadder", 1, call, *ahead, ((1, 1), part, (1, 1)), *behind)
-    for again in (((0, 1), (0, 1)), ((0, 1), (0, -1)), ((0, 1), (0, 1), (7, 7)), ((1, 1), (1, -1), (0, 1))):
-        case.refused("BadLadder", 1, call, *ahead, again, *behind)
-    case.refused("BadLadder", 2, call, *ahead, ((0, 1), (1, 1), (0, 1)), *behind)
-    case.refused("BadLadder", 2, call, *ahead, ((0, 1), (1, 1), (1, -1)), *behind)
-    case.refused("BadLadder", 1, call, *ahead, ((0, 1),) * 50000, *behind)
-    case.refused("BadLadder", 0, call, *ahead, LONG, *behind)
 
 
 class MadeLadder(Case):

@@ -5,7 +5,7 @@ import unittest
 from itertools import combinations, permutations, product
 
 from common import (Case, DEEP, LONG, NO_MANY, NO_TUPLES, climbing, every_ladder, every_lot, every_row, level_of,
-                    lots_refused_first, rows_lead, rows_refused, small_lots, some_lots, stand)
+                    lots_refused_first, needing_all, order_of, rows_lead, rows_refused, small_lots, some_lots, stand)
 from roundorlist.leading import few, fewest, lead_way, leads, row_of, way_of
 from roundorlist.walking import can_lead
 
@@ -17,17 +17,6 @@ BIG = 10 ** 999
 def bound(row):
     """How many rows [13] and steps [16] there may be at most."""
     return len(row) if any(row) else len(row) + 1
-
-
-def needing_all(n):
-    """A lot of n + 1 rows that can lead to the level row by no fewer than all."""
-    units = [(0,) * at + (1,) + (0,) * (n - at - 1) for at in range(n)]
-    return (n, tuple(sorted([(-1,) * n] + units)))
-
-
-def order_of(new, old):
-    """The row of two motions, told without the package."""
-    return tuple((one > two) - (one < two) for one, two in zip(new, old))
 
 
 def heights_told(steps, sign):

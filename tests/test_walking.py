@@ -3,10 +3,9 @@
 import unittest
 from itertools import permutations
 
-from common import (Case, climbing, every_ladder, every_lot, every_row, is_barred_by, is_heeded, level_of,
+from common import (Case, climbing, closed, every_ladder, every_lot, every_row, is_barred_by, is_heeded, level_of,
                     lots_refused_first, orders_refused, rows_refused, small_lots, some_lots, stand)
 from roundorlist.ladders import bars, heeds
-from roundorlist.rows import sums
 from roundorlist.walking import can_lead, walk, walk_by
 
 U = (2, ((0, 1), (1, 0), (1, 1)))
@@ -31,16 +30,6 @@ def walk_told(lot, row, order):
         if not can:
             return ("led", ladder)
         ladder += (can[0],)
-
-
-def closed(lot):
-    """The lot's rows with all rows of sums of them, and of sums of these, and so on."""
-    rows = set(lot[1])
-    new = rows
-    while new:
-        new = {row for one in rows for two in rows for row in sums(one, two)} - rows
-        rows |= new
-    return rows
 
 
 class Walk(Case):
