@@ -100,6 +100,11 @@ NO_RUNGS = (
     (0, DEEP), (LONG, 1), None, True, False, 0, 1, "", "01", DEEP, DEEP_PAIRS, LONG,
 )
 
+# Tuples that are no ladders of two members.
+BAD_LADDERS = tuple((part,) for part in NO_RUNGS) + tuple(((1, -1), part) for part in NO_RUNGS) + (
+    ((0, 1), (0, 1)), ((0, 1), (0, -1)), ((0, 1), (1, 1), (0, 1)), ((0, 1),) * 50000,
+)
+
 
 def exact(value):
     """The value with the kind of each of its parts, so that True is not 1 and a list no tuple."""

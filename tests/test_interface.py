@@ -36,6 +36,19 @@ INTERFACE = {
         "led": "lot", "alike": "one, two", "parting": "one, two", "break_of": "lot", "by_turns": "one, two",
         "turns_way": "one, two, row",
     },
+    "orders": {
+        "is_order": "lot", "against": "lot", "never_apart": "lot", "let_by": "n, ladders", "longest": "lot",
+        "one_ladder": "lot",
+    },
+    "seen": {
+        "made_seen": "thing", "could": "seen", "verdict": "seen, row", "decided_many": "seen",
+        "decided": "seen, row", "next_ask": "seen",
+    },
+    "worlds": {
+        "made_motion": "n, thing", "is_motion": "n, thing", "made_world": "thing", "is_world": "thing",
+        "beats": "table, world, new, old", "reach": "table, world, start", "shortest": "table, world, one, two",
+        "ends": "table, world", "round_in": "table, world",
+    },
 }
 
 

@@ -18,6 +18,11 @@ BUILTINS = set((
     "IndexError LookupError ZeroDivisionError ArithmeticError OverflowError RuntimeError NotImplementedError "
     "AttributeError StopIteration NotImplemented iter next map type"
 ).split())
+METHODS = set((
+    "append clear copy count endswith extend find get index insert isalnum isalpha isdigit islower isspace isupper "
+    "items join keys ljust lower lstrip partition pop remove replace reverse rfind rjust rpartition rsplit rstrip "
+    "setdefault split splitlines startswith strip update upper values zfill bit_length add discard sort"
+).split())
 LIBRARY = {
     "heapq": set("heappush heappop heapify heapreplace heappushpop".split()),
     "math": set("gcd lcm isqrt comb perm factorial".split()),
@@ -130,6 +135,23 @@ class Language(unittest.TestCase):
             for node in ast.walk(tree):
                 if isinstance(node, ast.Name) and node.id not in bound:
                     self.assertIn(node.id, BUILTINS, path.name)
+
+    def test_only_known_methods_are_called(self):
+        for path, tree in TREES.items():
+            for node in ast.walk(tree):
+                if isinstance(node, ast.Call) and isinstance(node.func, ast.Attribute):
+                    self.assertIn(node.func.attr, METHODS, path.name)
+
+    def test_sets_are_only_asked(self):
+        for path, tree in TREES.items():
+            for function in functions_of(tree):
+                stored = {node.targets[0].id for node in ast.walk(function) if isinstance(node, ast.Assign)
+                          and isinstance(node.value, ast.Call) and getattr(node.value.func, "id", "") == "set"}
+                asked = {part for node in ast.walk(function) if isinstance(node, ast.Compare)
+                         and isinstance(node.ops[0], (ast.In, ast.NotIn)) for part in node.comparators}
+                for node in ast.walk(function):
+                    if isinstance(node, ast.Name) and node.id in stored and isinstance(node.ctx, ast.Load):
+                        self.assertIn(node, asked, function.name)
 
     def test_no_local_name_is_that_of_an_import(self):
         for path, tree in TREES.items():
