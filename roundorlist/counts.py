@@ -120,7 +120,8 @@ def heads(lot):
 def leads_all(lot):
     """Whether the lot can lead to every row."""
     n, rows = made_lot(lot)
-    return len(rows) > 0 and len(heads_of(n, rows)) == 0
+    # Without rows all pairs are heads, so a lot that has none of them has a row.
+    return len(heads_of(n, rows)) == 0
 
 
 def full_many(n, rows, held, known):
