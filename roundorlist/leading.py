@@ -137,15 +137,15 @@ def row_of(new, old):
     return tuple([sign_between(here, there) for here, there in zip(new, old)])
 
 
-def heights_by(steps, sign, wide):
-    """The heights of one member: from 0 on by wide at steps with the sign, by 1 at those with the contrary one."""
+def heights_by(steps, sign, wide, narrow):
+    """The heights of one member: from 0 on by wide at steps with the sign, by narrow at those with the contrary one."""
     height = 0
     heights = [0]
     for step in steps:
         if step == sign:
             height += step * wide
         else:
-            height += step
+            height += step * narrow
         heights.append(height)
     return heights
 
@@ -157,14 +157,14 @@ def heights_back(steps):
     if len(moving) == 0:
         return [0] * (wide + 1)
     last = moving[-1]
-    return heights_by(steps[:last], -steps[last], wide) + [0] * (wide - last)
+    return heights_by(steps[:last], -steps[last], wide, 1) + [0] * (wide - last)
 
 
 def heights_of(steps, sign):
     """The heights of one member in a way with these steps, whose end stands so to its beginning."""
     if sign == 0:
         return heights_back(steps)
-    return heights_by(steps, sign, len(steps))
+    return heights_by(steps, sign, len(steps), 1)
 
 
 def way_of(n, rows, row):

@@ -7,6 +7,9 @@ from roundorlist.tables import made_table
 
 MOST_MOTIONS = 40
 
+# Heights are made so many times finer where motions have to be put between them: 1 to 7 steps part it evenly.
+FINE = 420
+
 
 def motion_fault(n, thing):
     """What BadMotion tells of thing, None if it is a motion of n members."""
@@ -30,6 +33,11 @@ def made_motion(n, thing):
 def is_motion(n, thing):
     """Whether n may be a number of members, and thing is a motion of as many."""
     return is_many(n) and motion_fault(n, thing) is None
+
+
+def fine(motion):
+    """The motion in fine heights."""
+    return tuple([FINE * height for height in motion])
 
 
 def world_fault(thing):

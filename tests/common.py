@@ -344,3 +344,79 @@ def ladders_refused(case, call, ahead, *behind):
     case.refused("BadLadder", 2, call, *ahead, ((0, 1), (1, 1), (1, -1)), *behind)
     case.refused("BadLadder", 1, call, *ahead, ((0, 1),) * 50000, *behind)
     case.refused("BadLadder", 0, call, *ahead, LONG, *behind)
+
+
+def rows_wrong(case, call, n, *behind):
+    """The call asks (n) and then (rows), of its first two arguments."""
+    for many in NO_MANY:
+        case.refused("BadMany", many, call, many, ((0,),), *behind)
+        case.refused("BadMany", many, call, many, None, *behind)
+    good = (1,) * n
+    for thing in NO_TUPLES + ((), (good,) * 15, (None,) * 15, LONG):
+        case.refused("BadRows", -1, call, n, thing, *behind)
+    for part in ((1,) * (n - 1), (1,) * (n + 1), (True,) * n, (2,) * n, None, 1, True, "1" * n, (), DEEP, LONG):
+        for index in (0, 1, 13):
+            case.refused("BadRows", index, call, n, (good,) * index + (part,) * (14 - index), *behind)
+
+
+def motions_refused(case, call, n, ahead, *behind):
+    """The call asks (motion), for n members, of the argument between those ahead and those behind."""
+    for thing in NO_TUPLES + ((), (0,) * (n - 1), (0,) * (n + 1), (None,) * (n + 1), LONG, LONG_ROWS):
+        case.refused("BadMotion", -1, call, *ahead, thing, *behind)
+    for wrong in NO_NUMBERS:
+        for place in range(n):
+            case.refused("BadMotion", place, call, *ahead, (9,) * place + (wrong,) * (n - place), *behind)
+
+
+def scaled(motion, times=420):
+    """The motion with so many times its heights."""
+    return tuple(times * height for height in motion)
+
+
+def bridge_told(n, rows, one, two):
+    """The motions of a bridge, word for word as [40] tells them, but for its first one."""
+    columns = []
+    for place in range(n):
+        apart, steps = two[place] - one[place], [row[place] for row in rows]
+        s = (apart > 0) - (apart < 0)
+        columns.append(fine_heights(apart, s, steps, 420 * one[place]))
+    return [tuple(column[at] for column in columns) for at in range(len(rows))]
+
+
+def fine_heights(apart, s, steps, height):
+    p, q, k = steps.count(s), steps.count(-s), len(steps)
+    start, heights = height, []
+    moving = [at for at, step in enumerate(steps) if step != 0]
+    for at, step in enumerate(steps):
+        if s != 0 and step != 0:
+            height += s * (420 * abs(apart) // p + q) if step == s else -s * p
+        elif step != 0 and at == moving[-1]:
+            height = start
+        elif step != 0:
+            a = steps[moving[-1]]
+            height += a if step == a else -a * k
+        heights.append(height)
+    return heights
+
+
+# What is no text, and what BadText tells of it and of texts that cannot be read.
+NO_TEXTS = tuple((thing, -1) for thing in (None, True, False, 0, 1, -1, 10 ** 999, (), ("",), ("a",), DEEP, LONG)) + (
+    ("\n", 0), ("\x1f", 0), ("\x7f", 0), ("\t0", 0), ("stands 0;\n", 9), ("+\x00", 1), ("a\x7fb\x1f", 1),
+    ("members \xe4; wins if a over", 8), ("\u0661", 0), ("\ud800", 0), ("x" * 19999 + "\x1f", 19999),
+    ("x" * 20000 + "\x1f", 20000), ("x" * 20001, 20000), (" " * 100000, 20000), ("x\n" * 20000, 1),
+)
+
+
+def texts_refused(case, call, ahead):
+    """The call asks (text) of the argument behind those ahead."""
+    for thing, what in NO_TEXTS:
+        case.refused("BadText", what, call, *ahead, thing)
+
+
+def spoilt(chance, text, signs, many):
+    """So many texts, each with one sign more, fewer or another one than this one."""
+    texts = []
+    for _ in range(many):
+        at, sign = chance.randrange(len(text) + 1), chance.choice(signs)
+        texts.append(text[:at] + chance.choice((sign, "")) + text[at + chance.randrange(2):])
+    return texts

@@ -49,6 +49,21 @@ INTERFACE = {
         "beats": "table, world, new, old", "reach": "table, world, start", "shortest": "table, world, one, two",
         "ends": "table, world", "round_in": "table, world",
     },
+    "bridges": {"bridge_of": "n, rows, one, two", "bridge": "table, one, two"},
+    "minutes": {"minutes_text": "sitting", "opened": "table, text"},
+    "kernel": {
+        "way_right": "lot, row, way", "round_right": "table, way", "bridge_right": "table, one, two, way",
+        "three_right": "lot, way", "bars_right": "lot, ladder, row", "climbed_right": "table, ladder",
+        "strike_right": "table, rows, ladder", "round_in_right": "table, world, numbers",
+    },
+}
+
+# Of each class the file, and the arguments of each of its methods, those with which it is made ahead.
+CLASSES = {
+    "Sitting": ("sittings", {
+        "__init__": "table, motion", "put": "motion", "standing": "", "first": "", "minutes": "", "back": "",
+        "again": "", "plan": "aim", "step": "", "scale": "",
+    }),
 }
 
 
@@ -70,6 +85,19 @@ class Interface(unittest.TestCase):
                 for parameter in inspect.signature(getattr(module, name)).parameters.values():
                     self.assertIs(parameter.kind, inspect.Parameter.POSITIONAL_OR_KEYWORD, name)
                     self.assertIs(parameter.default, inspect.Parameter.empty, name)
+
+    def test_classes_their_methods_and_files(self):
+        for name, (file, methods) in CLASSES.items():
+            found = getattr(importlib.import_module("roundorlist." + file), name)
+            self.assertTrue(inspect.isclass(found), name)
+            self.assertEqual(found.__module__, "roundorlist." + file, name)
+            for method, arguments in methods.items():
+                self.assertTrue(inspect.isfunction(vars(found)[method]), method)
+                parameters = list(inspect.signature(vars(found)[method]).parameters.values())[1:]
+                self.assertEqual(", ".join(parameter.name for parameter in parameters), arguments, method)
+                for parameter in parameters:
+                    self.assertIs(parameter.kind, inspect.Parameter.POSITIONAL_OR_KEYWORD, method)
+                    self.assertIs(parameter.default, inspect.Parameter.empty, method)
 
 
 if __name__ == "__main__":

@@ -47,6 +47,8 @@ def names_bound(tree):
             found.add(node.arg)
         elif isinstance(node, ast.Name) and not isinstance(node.ctx, ast.Load):
             found.add(node.id)
+        elif isinstance(node, ast.ExceptHandler) and node.name:
+            found.add(node.name)
         elif isinstance(node, ast.ImportFrom):
             found.update(alias.asname or alias.name for alias in node.names)
     return found
@@ -137,10 +139,53 @@ class Language(unittest.TestCase):
                     self.assertIn(node.id, BUILTINS, path.name)
 
     def test_only_known_methods_are_called(self):
+        own = {node.name for tree in TREES.values() for part in tree.body if isinstance(part, ast.ClassDef)
+               for node in part.body if isinstance(node, ast.FunctionDef)}
         for path, tree in TREES.items():
             for node in ast.walk(tree):
                 if isinstance(node, ast.Call) and isinstance(node.func, ast.Attribute):
-                    self.assertIn(node.func.attr, METHODS, path.name)
+                    self.assertIn(node.func.attr, METHODS | own, path.name)
+
+    def test_classes_have_only_plain_methods(self):
+        for path, tree in TREES.items():
+            for part in ast.walk(tree):
+                if isinstance(part, ast.ClassDef):
+                    self.assertIn(part, tree.body, path.name)
+                    self.check_class(part)
+
+    def check_class(self, part):
+        methods = [node.name for node in part.body if isinstance(node, ast.FunctionDef)]
+        attributes = {node.attr for node in ast.walk(part) if isinstance(node, ast.Attribute)
+                      and isinstance(node.ctx, ast.Store)}
+        self.assertEqual(len(set(methods)), len(methods), part.name)
+        self.assertEqual(sorted(attributes & set(methods)), [], part.name)
+        for name in methods + sorted(attributes):
+            self.assertTrue(name == "__init__" or not name.startswith("__"), part.name)
+        for node in part.body:
+            if not isinstance(node, ast.FunctionDef):
+                self.assertIsInstance(node, ast.Expr, part.name)
+
+    def test_lists_and_dicts_of_a_module_are_only_read_where_they_stand(self):
+        for path, tree in TREES.items():
+            plain = {node.targets[0].id for node in tree.body if isinstance(node, ast.Assign)
+                     and isinstance(node.value, (ast.Dict, ast.List))}
+            for node in ast.walk(tree):
+                if isinstance(node, ast.ImportFrom) and node.module.startswith("roundorlist."):
+                    other = TREES[PACKAGE / (node.module.split(".")[1] + ".py")]
+                    taken = {alias.name for alias in node.names}
+                    plain |= {part.targets[0].id for part in other.body if isinstance(part, ast.Assign)
+                              and isinstance(part.value, (ast.Dict, ast.List)) and part.targets[0].id in taken}
+            read = set()
+            for node in ast.walk(tree):
+                if isinstance(node, ast.Subscript) and isinstance(node.ctx, ast.Load):
+                    read.add(node.value)
+                elif isinstance(node, (ast.For, ast.comprehension)):
+                    read.add(node.iter)
+                elif isinstance(node, ast.Compare):
+                    read.update(node.comparators)
+            for node in ast.walk(tree):
+                if isinstance(node, ast.Name) and node.id in plain and isinstance(node.ctx, ast.Load):
+                    self.assertIn(node, read, path.name)
 
     def test_sets_are_only_asked(self):
         for path, tree in TREES.items():

@@ -4,8 +4,8 @@ import time
 import unittest
 from itertools import combinations, permutations, product
 
-from common import (Case, DEEP, LONG, NO_MANY, NO_TUPLES, climbing, every_ladder, every_lot, every_row, level_of,
-                    lots_refused_first, needing_all, order_of, rows_lead, rows_refused, small_lots, some_lots, stand)
+from common import (Case, climbing, every_ladder, every_lot, every_row, level_of, lots_refused_first,
+                    needing_all, order_of, rows_lead, rows_refused, rows_wrong, small_lots, some_lots, stand)
 from roundorlist.leading import few, fewest, lead_way, leads, row_of, way_of
 from roundorlist.walking import can_lead
 
@@ -42,19 +42,6 @@ def heights_told(steps, sign):
 def way_told(rows, row):
     columns = [heights_told([step[place] for step in rows], sign) for place, sign in enumerate(row)]
     return tuple(tuple(column[at] for column in columns) for at in range(len(rows) + 1))
-
-
-def rows_wrong(case, call, n, *behind):
-    """The call asks (n) and then (rows), of its first two arguments."""
-    for many in NO_MANY:
-        case.refused("BadMany", many, call, many, ((0,),), *behind)
-        case.refused("BadMany", many, call, many, None, *behind)
-    good = (1,) * n
-    for thing in NO_TUPLES + ((), (good,) * 15, (None,) * 15, LONG):
-        case.refused("BadRows", -1, call, n, thing, *behind)
-    for part in ((1,) * (n - 1), (1,) * (n + 1), (True,) * n, (2,) * n, None, 1, True, "1" * n, (), DEEP, LONG):
-        for index in (0, 1, 13):
-            case.refused("BadRows", index, call, n, (good,) * index + (part,) * (14 - index), *behind)
 
 
 class Leads(Case):

@@ -5,7 +5,7 @@ import time
 import unittest
 
 from common import (Case, DEEP, DEEP_PAIRS, LONG, LONG_ROWS, NO_MANY, NO_NUMBERS, NO_TUPLES, ODD, all_but_level,
-                    climbing, every_ladder, every_row, every_table, full_ladders, level_of, needing_all, order_of,
+                    bridge_told, climbing, every_ladder, every_row, every_table, full_ladders, level_of, needing_all, order_of,
                     rows_lead, some_tables, tables_refused_first)
 from roundorlist.leading import few, lead_way
 from roundorlist.rounds import goes_round, round_of
@@ -78,32 +78,6 @@ def come_told(wins, many):
     for _ in range(many):
         come = [here | {new for new, old in wins if old in here} for here in come]
     return come
-
-
-def bridge_told(n, rows, one, two):
-    """The motions of a bridge, word for word as [40] tells them, but for its first one."""
-    columns = []
-    for place in range(n):
-        apart, steps = two[place] - one[place], [row[place] for row in rows]
-        s = (apart > 0) - (apart < 0)
-        columns.append(fine_heights(apart, s, steps, 420 * one[place]))
-    return [tuple(column[at] for column in columns) for at in range(len(rows))]
-
-
-def fine_heights(apart, s, steps, height):
-    p, q, k = steps.count(s), steps.count(-s), len(steps)
-    start, heights = height, []
-    moving = [at for at, step in enumerate(steps) if step != 0]
-    for at, step in enumerate(steps):
-        if s != 0 and step != 0:
-            height += s * (420 * abs(apart) // p + q) if step == s else -s * p
-        elif step != 0 and at == moving[-1]:
-            height = start
-        elif step != 0:
-            a = steps[moving[-1]]
-            height += a if step == a else -a * k
-        heights.append(height)
-    return heights
 
 
 class Motions(Case):
