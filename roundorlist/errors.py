@@ -6,6 +6,8 @@ class Refused(ValueError):
 
     def __init__(self, what):
         self.what = what
+        # A session tells what it refuses by the name of the class.
+        self.kind = self.__class__.__name__
 
 
 class BadMany(Refused):

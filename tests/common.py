@@ -420,3 +420,43 @@ def spoilt(chance, text, signs, many):
         at, sign = chance.randrange(len(text) + 1), chance.choice(signs)
         texts.append(text[:at] + chance.choice((sign, "")) + text[at + chance.randrange(2):])
     return texts
+
+
+NAMES_KEPT = (
+    "members", "chamber", "wins", "if", "or", "and", "not", "over", "level", "under", "of", "none", "up", "down",
+)
+
+# Things that are no names, and what BadNames tells of each.
+NO_NAMES = tuple((thing, -1) for thing in (None, True, False, 0, 1, "", "a", "a, b", (), tuple("abcdefg"), LONG)) + tuple(
+    ((name,), 0) for name in NAMES_KEPT + (
+        "", "A", "aB", "0", "1a", " a", "a ", "a b", "a_b", "_a", "a-b", "\xe4", "a\xe4", "\u0430", "a\u0661", "a\n",
+        "a" * 13, "a1" * 7, "a" * 99999, None, 0, 1, True, (), ("a",), DEEP, LONG)
+) + (
+    (("a", "up"), 1), (("a", "b", "a"), 2), (("a", "a"), 1), (("a", "b", "c", "d", "e", "a"), 5), (("a", None, "a"), 1),
+    (("up", "up"), 0), (("a", "b", "b", "A"), 2), (DEEP_PAIRS, 0),
+)
+
+
+def names_refused(case, call, *behind):
+    """The call asks (names) of its first argument."""
+    for thing, what in NO_NAMES:
+        case.refused("BadNames", what, call, thing, *behind)
+
+
+def words_told(text):
+    """The words of a text with their places, and its end, told without the package."""
+    words, place = [], 0
+    while place < len(text):
+        begin = place
+        while place < len(text) and text[place] in "abcdefghijklmnopqrstuvwxyz0123456789":
+            place += 1
+        if place == begin:
+            place += 1
+        if text[begin] != " ":
+            words.append((text[begin:place], begin))
+    return words + [("", len(text))]
+
+
+def name_told(word):
+    """Whether a word is a name, told without the package."""
+    return word != "" and word[0] in "abcdefghijklmnopqrstuvwxyz" and len(word) <= 12 and word not in NAMES_KEPT

@@ -56,6 +56,14 @@ INTERFACE = {
         "three_right": "lot, way", "bars_right": "lot, ladder, row", "climbed_right": "table, ladder",
         "strike_right": "table, rows, ladder", "round_in_right": "table, world, numbers",
     },
+    "ruletexts": {
+        "read_council": "text", "true_at": "council, row", "table_of": "council", "print_council": "council",
+    },
+    "texts": {
+        "print_row": "n, row", "read_row": "n, text", "print_lot": "lot", "read_lot": "n, text",
+        "made_names": "thing", "print_ladder": "names, ladder", "read_ladder": "names, text",
+        "print_motion": "n, motion", "read_motion": "n, text",
+    },
 }
 
 # Of each class the file, and the arguments of each of its methods, those with which it is made ahead.
@@ -64,6 +72,11 @@ CLASSES = {
         "__init__": "table, motion", "put": "motion", "standing": "", "first": "", "minutes": "", "back": "",
         "again": "", "plan": "aim", "step": "", "scale": "",
     }),
+    "Kept": ("kept", {
+        "__init__": "n", "add": "row", "strike": "row", "undo": "", "redo": "", "table": "", "calm": "", "can": "row",
+        "paper": "",
+    }),
+    "Session": ("session", {"__init__": "text, motion", "row": "text"}),
 }
 
 
