@@ -32,6 +32,17 @@ LIBRARY = {
 BARRED = (ast.AsyncFunctionDef, ast.AsyncFor, ast.AsyncWith, ast.Await, ast.Global, ast.Div, ast.Import)
 ALLOWED_AT_TOP = (ast.FunctionDef, ast.ClassDef, ast.ImportFrom, ast.Assign, ast.Expr)
 
+# Words that stand nowhere in a file but in comments and docstrings, and names that nothing has.
+BARRED_WORDS = set((
+    "type typing typing_extensions enum Enum IntEnum StrEnum Flag IntFlag Generic Protocol ABC ABCMeta namedtuple "
+    "NamedTuple TypedDict TYPE_CHECKING abstractmethod dataclass overload contextmanager"
+).split())
+BARRED_NAMES = set((
+    "mro elements open input law version_info with_traceback add_note register attrgetter breakpoint builtins compile "
+    "copyright credits delattr dir eval exec exit gc getattr globals hasattr help id importlib license locals "
+    "methodcaller os quit setattr super type vars sys"
+).split())
+
 
 def functions_of(tree):
     return [node for node in ast.walk(tree) if isinstance(node, ast.FunctionDef)]
@@ -206,6 +217,54 @@ class Language(unittest.TestCase):
                     brought.update(alias.name for alias in node.names)
             for function in functions_of(tree):
                 self.assertEqual(sorted(names_bound(function) & brought), [], function.name)
+
+    def test_strings_have_nothing_that_is_barred(self):
+        for path, tree in TREES.items():
+            docs = [node.body[0].value for node in ast.walk(tree)
+                    if isinstance(node, (ast.Module, ast.FunctionDef, ast.ClassDef)) and ast.get_docstring(node)]
+            for node in ast.walk(tree):
+                if isinstance(node, ast.Constant) and isinstance(node.value, str) and node not in docs:
+                    self.assertNotIn("%", node.value, path.name)
+                    self.assertNotIn("__", node.value, path.name)
+                    self.assertEqual(set(re.findall(r"\w+", node.value)) & BARRED_WORDS, set(), path.name)
+
+    def test_no_name_is_barred(self):
+        for path, tree in TREES.items():
+            names = names_bound(tree) | {node.attr for node in ast.walk(tree) if isinstance(node, ast.Attribute)}
+            names |= {node.arg for node in ast.walk(tree) if isinstance(node, ast.keyword)}
+            self.assertEqual(names & (BARRED_NAMES | BARRED_WORDS), set(), path.name)
+            for name in names - {"__init__", "__class__", "__name__"}:
+                self.assertRegex(name, r"^(_|_?[A-Za-z][A-Za-z0-9_]*)$", path.name)
+                self.assertFalse(name.startswith(("_wall", "_pe_", "_dcw_", "_enum_", "_cm_", "_law_")), name)
+
+    def test_is_stands_beside_none_true_and_false_alone(self):
+        for path, tree in TREES.items():
+            for node in ast.walk(tree):
+                if isinstance(node, ast.Compare) and isinstance(node.ops[0], (ast.Is, ast.IsNot)):
+                    beside = [node.left] + node.comparators
+                    self.assertTrue(any(isinstance(part, ast.Constant) and part.value in (None, True, False)
+                                        for part in beside), path.name)
+
+    def test_attributes_are_assigned_through_names(self):
+        for path, tree in TREES.items():
+            classes = {node.name for node in ast.walk(tree) if isinstance(node, ast.ClassDef)}
+            for node in ast.walk(tree):
+                if isinstance(node, ast.Attribute) and isinstance(node.ctx, ast.Store):
+                    self.assertIsInstance(node.value, ast.Name, path.name)
+                    self.assertNotIn(node.value.id, classes, path.name)
+                if isinstance(node, ast.Attribute) and node.attr == "__class__":
+                    self.assertIsInstance(node.value, ast.Name, path.name)
+
+    def test_errors_are_made_where_they_are_raised(self):
+        errors = {node.name for node in TREES[PACKAGE / "errors.py"].body if isinstance(node, ast.ClassDef)}
+        for path, tree in TREES.items():
+            for node in ast.walk(tree):
+                if isinstance(node, ast.Raise):
+                    self.assertIsInstance(node.exc, ast.Call, path.name)
+                    self.assertIn(node.exc.func.id, errors, path.name)
+                    self.assertEqual((len(node.exc.args), node.exc.keywords), (1, []), path.name)
+                if isinstance(node, ast.ExceptHandler):
+                    self.assertIn(node.type.id, errors, path.name)
 
 
 if __name__ == "__main__":
